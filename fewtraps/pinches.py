@@ -1,0 +1,12 @@
+"""The nearest of the least walls of a lot that use no free place."""
+
+from fewtraps.maps import check_free, check_lot, made_map
+from fewtraps.nets import Net
+
+
+def pinch(chart, lot, free):
+    """Return the nearest least lot without free places that cuts the lot."""
+    made_map(chart)
+    check_lot(chart, lot)
+    check_free(chart, free)
+    return Net(chart, lot, free).near()

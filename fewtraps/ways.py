@@ -1,0 +1,12 @@
+"""Ways from a lot to wished places that share nothing but free places."""
+
+from fewtraps.maps import check_free, check_lot, made_map
+from fewtraps.nets import Net
+
+
+def share(chart, lot, free):
+    """Return as many ways that share nothing but free places as there can be."""
+    made_map(chart)
+    check_lot(chart, lot)
+    check_free(chart, free)
+    return Net(chart, lot, free).ways()
