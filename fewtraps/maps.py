@@ -1,9 +1,11 @@
 """Maps, their places and lots, and the checks of what is handed in with a map."""
 
-from fewtraps.errors import BadFree, BadLot, BadMap, BadPlace, BadWish, Refused
+from fewtraps.errors import BadFree, BadLot, BadMap, BadNumber, BadPlace, BadWish, Refused
 
 MOST_PLACES = 60
 MOST_ROADS = 240
+MOST_TRAPS = 8
+MOST_THREADS = 3
 
 
 def made_map(thing):
@@ -38,9 +40,25 @@ def next_of(chart, lot):
     return places_next(chart, lot)
 
 
+def is_number(thing):
+    """Return whether thing is a number; True and False are none."""
+    return isinstance(thing, int) and not isinstance(thing, bool)
+
+
 def number_within(thing, low, high):
-    """Return whether thing is a number from low to high; True and False are none."""
-    return isinstance(thing, int) and not isinstance(thing, bool) and low <= thing <= high
+    """Return whether thing is a number from low to high."""
+    return is_number(thing) and low <= thing <= high
+
+
+def traps_number_fits(thing):
+    """Return whether thing is a number of traps."""
+    return number_within(thing, 0, MOST_TRAPS)
+
+
+def check_traps_number(thing):
+    """Raise BadNumber unless thing is a number of traps."""
+    if not traps_number_fits(thing):
+        raise BadNumber(thing)
 
 
 def first_bad_place(places, items):
@@ -87,6 +105,18 @@ def lot_fits(chart, thing):
 def free_fits(chart, thing):
     """Return whether thing is a lot of unwished places of the map."""
     return lot_fits(chart, thing) and not any([place in chart[2] for place in thing])
+
+
+def traps_fit(chart, k, thing):
+    """Return whether thing is a lot of the map of at most k places."""
+    return lot_fits(chart, thing) and len(thing) <= k
+
+
+def standing_fits(chart, thing):
+    """Return whether thing is a standing of the map."""
+    if not isinstance(thing, tuple) or not 1 <= len(thing) <= MOST_THREADS:
+        return False
+    return all([place_fits(chart, place) for place in thing])
 
 
 def check_place(chart, thing):

@@ -7,6 +7,11 @@ from fewtraps.reach import reached_unwished
 MANY = 61
 
 
+def flow_of(chart, lot, free):
+    """Return as many ways from the lot as share nothing but free places."""
+    return Flow(Net(chart), lot, free, MANY)
+
+
 def arriving(place):
     """Return the side of a place at which roads arrive."""
     return 2 * place
@@ -17,101 +22,128 @@ def leaving(place):
     return 2 * place + 1
 
 
-class Net:
-    """As many ways from a lot as share nothing but free places.
+def gate(place):
+    """Return the number of the path from the side of a place at which roads arrive to the other side."""
+    return 2 * place
 
-    A place has two sides, and room between them for one way, or for many if it is free. What a way uses of the room
-    in one direction it adds in the other one, so that a later way may push it aside. No way comes back to an
-    unwished place of the lot, as it could begin there instead.
+
+class Net:
+    """The paths of a map by which ways go, the same for all lots and free places.
+
+    A place has two sides. A path leads from one to the other, which is its gate, and one along each road. Each path
+    has an even number, and the number behind it stands for going back: what a way uses of the room in one direction
+    it adds in the other one, so that a later way may push it aside.
     """
 
-    def __init__(self, chart, lot, free):
+    def __init__(self, chart):
         self.chart = chart
-        self.lot = lot
-        self.inner = [place for place in reached_unwished(chart, lot) if place not in lot]
-        self.roads = self._roads_of_ways()
-        self.room = {}
-        self.beside = {}
-        self.ended = {}
+        self.beside = [[] for _ in range(2 * chart[0])]
+        self.toward = []
+        self.rooms = []
+        self.finish = {arriving(place): True for place in chart[2]}
         for place in range(chart[0]):
-            self.beside[arriving(place)] = []
-            self.beside[leaving(place)] = []
-        for place in self.inner:
-            self._join(arriving(place), leaving(place), MANY if place in free else 1)
-        for a, b in self.roads:
-            self._join(leaving(a), arriving(b), MANY)
-        self._fill()
+            # No way goes through a wished place.
+            self._join(arriving(place), leaving(place), 0 if arriving(place) in self.finish else 1)
+        for a, b in chart[1]:
+            # A road from an unwished place to itself brings no way on.
+            if a != b or arriving(b) in self.finish:
+                self._join(leaving(a), arriving(b), MANY)
+
+    def _join(self, side, other, room):
+        self.beside[side].append(len(self.toward))
+        self.toward.append(other)
+        self.rooms.append(room)
+        self.beside[other].append(len(self.toward))
+        self.toward.append(side)
+        self.rooms.append(0)
+
+
+class Flow:
+    """As many ways from a lot as share nothing but free places; no more than one above `most`.
+
+    No way comes back to an unwished place of the lot, as it could begin there instead.
+    """
+
+    def __init__(self, net, lot, free, most):
+        self.net = net
+        self.lot = lot
+        self.room = list(net.rooms)
+        for place in free:
+            self.room[gate(place)] = MANY
+        for place in lot:
+            self.room[gate(place)] = 0
+        self.ended = {}
+        self.came = {}
+        self._fill(most)
+
+    def many(self):
+        """Return the number of the ways."""
+        return len(self.ended)
 
     def near(self):
-        """Return the nearest of the least cuts."""
-        came = self._came_from_lot()
-        region = list(self.lot) + [place for place in self.inner if leaving(place) in came]
-        return places_next(self.chart, region)
+        """Return the nearest of the least cuts; there are no more ways than were let."""
+        chart = self.net.chart
+        return places_next(chart, [place for place in range(chart[0]) if leaving(place) in self.came])
 
     def far(self):
-        """Return the farthest of the least cuts."""
-        onward = self._spread([arriving(place) for place in self.chart[2] if place not in self.ended], True)
-        region = list(self.lot) + [place for place in self.inner if leaving(place) not in onward]
-        return places_next(self.chart, region)
+        """Return the farthest of the least cuts; there are no more ways than were let."""
+        onward = self._sides_before_ends()
+        chart = self.net.chart
+        inner = [place for place in reached_unwished(chart, self.lot) if leaving(place) not in onward]
+        return places_next(chart, list(self.lot) + inner)
 
     def ways(self):
         """Return the ways, in the order of the wished places at which they end."""
-        used = {(a, b): self.room[(arriving(b), leaving(a))] for a, b in self.roads}
+        used = list(self.room)
         found = []
         for end in sorted(self.ended):
-            found.append(self._way_to(end, used))
+            found.append(self._way_to(end // 2, used))
         return tuple(found)
 
-    def _join(self, side, other, room):
-        self.room[(side, other)] = room
-        self.room[(other, side)] = 0
-        self.beside[side].append(other)
-        self.beside[other].append(side)
-
-    def _roads_of_ways(self):
-        wished = set(self.chart[2])
-        inner = set(self.inner)
-        begins = set(list(self.lot) + self.inner)
-        # A road from an inner place to itself brings no way on.
-        return [(a, b) for a, b in self.chart[1] if a in begins and (b in wished or (b in inner and a != b))]
-
-    def _fill(self):
-        came = self._came_from_lot()
-        end = self._further_end(came)
+    def _fill(self, most):
+        end = self._further_end()
         while end is not None:
-            self._add_way(came, end)
-            came = self._came_from_lot()
-            end = self._further_end(came)
+            self._add_way(end)
+            end = self._further_end() if len(self.ended) <= most else None
 
-    def _further_end(self, came):
-        for place in self.chart[2]:
-            if place not in self.ended and arriving(place) in came:
-                return place
-        return None
-
-    def _add_way(self, came, end):
-        self.ended[end] = True
-        side = arriving(end)
-        while came[side] is not None:
-            self.room[(came[side], side)] -= 1
-            self.room[(side, came[side])] += 1
-            side = came[side]
-
-    def _came_from_lot(self):
-        return self._spread([leaving(place) for place in self.lot], False)
-
-    def _spread(self, starts, back):
-        """Return a dict: for each side to which there is room from the starts, or back, the side before it."""
-        came = {side: None for side in starts}
-        waiting = list(starts)
+    def _further_end(self):
+        """Go from the lot wherever there is room; return the first side where one more way can end, None if none."""
+        net = self.net
+        came = {leaving(place): None for place in self.lot}
+        self.came = came
+        waiting = list(came)
         while waiting:
             side = waiting.pop()
-            for other in self.beside[side]:
-                pair = (other, side) if back else (side, other)
-                if other not in came and self.room[pair] > 0:
-                    came[other] = side
+            for path in net.beside[side]:
+                other = net.toward[path]
+                if other not in came and self.room[path] > 0:
+                    came[other] = path
+                    if other in net.finish and other not in self.ended:
+                        return other
                     waiting.append(other)
-        return came
+        return None
+
+    def _add_way(self, end):
+        self.ended[end] = True
+        path = self.came[end]
+        while path is not None:
+            self.room[path] -= 1
+            self.room[path ^ 1] += 1
+            path = self.came[self.net.toward[path ^ 1]]
+
+    def _sides_before_ends(self):
+        """Return a dict of the sides from which there is room to an end where no way ends."""
+        net = self.net
+        found = {end: True for end in net.finish if end not in self.ended}
+        waiting = list(found)
+        while waiting:
+            side = waiting.pop()
+            for path in net.beside[side]:
+                other = net.toward[path]
+                if other not in found and self.room[path ^ 1] > 0:
+                    found[other] = True
+                    waiting.append(other)
+        return found
 
     def _way_to(self, end, used):
         """Return the way that ends here, and take its roads out of those that are used."""
@@ -127,8 +159,9 @@ class Net:
         return tuple(way[::-1])
 
     def _place_before(self, place, used):
-        for a, b in self.roads:
-            if b == place and used[(a, b)] > 0:
-                used[(a, b)] -= 1
-                return a
+        for path in self.net.beside[arriving(place)]:
+            # Of the paths here those back along a road have odd numbers.
+            if path & 1 and used[path] > 0:
+                used[path] -= 1
+                return self.net.toward[path] // 2
         return None

@@ -1,7 +1,7 @@
 """The nearest of the least walls of a lot that use no free place."""
 
 from fewtraps.maps import check_free, check_lot, made_map
-from fewtraps.nets import Net
+from fewtraps.nets import flow_of
 
 
 def pinch(chart, lot, free):
@@ -9,4 +9,4 @@ def pinch(chart, lot, free):
     made_map(chart)
     check_lot(chart, lot)
     check_free(chart, free)
-    return Net(chart, lot, free).near()
+    return flow_of(chart, lot, free).near()

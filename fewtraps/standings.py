@@ -1,11 +1,10 @@
 """Standings of threads, their rows and members, and which standings are later."""
 
 from fewtraps.errors import BadStanding, Refused, TooMany
-from fewtraps.maps import made_map, place_fits
+from fewtraps.maps import MOST_THREADS, made_map, place_fits
 from fewtraps.pieces import piece_table, unwished_pieces
 from fewtraps.reach import reached_unwished
 
-MOST_THREADS = 3
 MOST_ROWS = 400
 
 

@@ -1,7 +1,7 @@
 """The least walls of a lot: how many places they have, the nearest and the farthest one."""
 
 from fewtraps.maps import check_lot, made_map
-from fewtraps.nets import Net
+from fewtraps.nets import flow_of
 
 
 def wall(chart, lot):
@@ -13,11 +13,11 @@ def near(chart, lot):
     """Return the nearest of the least walls."""
     made_map(chart)
     check_lot(chart, lot)
-    return Net(chart, lot, ()).near()
+    return flow_of(chart, lot, ()).near()
 
 
 def far(chart, lot):
     """Return the farthest of the least walls."""
     made_map(chart)
     check_lot(chart, lot)
-    return Net(chart, lot, ()).far()
+    return flow_of(chart, lot, ()).far()

@@ -1,7 +1,7 @@
 """Ways from a lot to wished places that share nothing but free places."""
 
 from fewtraps.maps import check_free, check_lot, made_map
-from fewtraps.nets import Net
+from fewtraps.nets import flow_of
 
 
 def share(chart, lot, free):
@@ -9,4 +9,4 @@ def share(chart, lot, free):
     made_map(chart)
     check_lot(chart, lot)
     check_free(chart, free)
-    return Net(chart, lot, free).ways()
+    return flow_of(chart, lot, free).ways()

@@ -13,6 +13,9 @@ BUILTINS = (
     "repr any all divmod ValueError"
 ).split()
 
+METHODS = ("append clear copy count extend find get index insert items join keys pop remove reverse setdefault "
+           "values").split()
+
 
 def names_of(tree):
     """Return the names that a file defines, assigns or imports, at any depth."""
@@ -63,7 +66,8 @@ class TestLanguage(unittest.TestCase):
     def test_no_files_import_each_other(self):
         asked = {}
         for path, tree in self.each_tree():
-            asked[f"fewtraps.{path.stem}"] = {node.module for node in ast.walk(tree) if isinstance(node, ast.ImportFrom)}
+            imports = [node for node in ast.walk(tree) if isinstance(node, ast.ImportFrom)]
+            asked[f"fewtraps.{path.stem}"] = {node.module for node in imports}
         while asked:
             ready = [name for name in asked if not asked[name] & set(asked)]
             self.assertTrue(ready, asked)
@@ -83,6 +87,40 @@ class TestLanguage(unittest.TestCase):
                     self.assertEqual(node.decorator_list, [])
                 if isinstance(node, ast.Constant):
                     self.assertNotIsInstance(node.value, float)
+
+    def test_no_variable_has_the_name_of_a_class_or_an_import(self):
+        for path, tree in self.each_tree():
+            kept = {name.name for node in tree.body if isinstance(node, ast.ImportFrom) for name in node.names}
+            kept |= {node.name for node in tree.body if isinstance(node, (ast.ClassDef, ast.FunctionDef))}
+            for function in [node for node in ast.walk(tree) if isinstance(node, ast.FunctionDef)]:
+                inside = {node.id for node in ast.walk(function)
+                          if isinstance(node, ast.Name) and not isinstance(node.ctx, ast.Load)}
+                inside |= {node.arg for node in ast.walk(function) if isinstance(node, ast.arg)}
+                self.assertFalse(inside & kept, (path, function.name))
+
+    def test_no_name_is_a_method_and_an_attribute(self):
+        methods, assigned, read = set(), set(), set()
+        for path, tree in self.each_tree():
+            for node in ast.walk(tree):
+                if isinstance(node, ast.ClassDef):
+                    methods |= {part.name for part in node.body if isinstance(part, ast.FunctionDef)}
+                if isinstance(node, ast.Attribute):
+                    (read if isinstance(node.ctx, ast.Load) else assigned).add(node.attr)
+        self.assertFalse(methods & assigned)
+        self.assertLessEqual(read, methods | assigned | set(METHODS))
+
+    def test_names_that_are_barred(self):
+        barred = "_wall|_pe_|_dcw_|_enum_|_cm_|_twin_re_|_lay_|_law_|_stub_|_sre|__(?!init__)"
+        words = ("type typing enum Enum Generic Protocol ABC register mro elements open input law exec eval dir id "
+                 "vars help super globals locals compile exit quit").split()
+        for path, tree in self.each_tree():
+            for name in names_of(tree):
+                self.assertFalse(re.match(barred, name), (path, name))
+            for node in ast.walk(tree):
+                if isinstance(node, ast.Name):
+                    self.assertNotIn(node.id, words, path)
+                if isinstance(node, ast.Compare) and any(isinstance(op, (ast.Is, ast.IsNot)) for op in node.ops):
+                    self.assertTrue(isinstance(node.comparators[-1], ast.Constant), (path, node.lineno))
 
     def test_no_name_of_a_builtin_is_given_another_meaning(self):
         for path, tree in self.each_tree():
