@@ -14,13 +14,23 @@ class Plan:
         self.k = k
         self.bounds = {}
         self.lays = {}
-        # The bound of a row rests on those of the later ones.
-        for _, row in sorted([(survey.rank_of(each), each) for each in rows]):
-            self._add(row)
+        self._add_all(rows)
+
+    def lay_at(self, standing):
+        """Return the lay of the standing, None if there is no bound; its later rows are added if they are new."""
+        row = self.survey.row_from(standing)
+        if row not in self.lays:
+            self._add_all(later_rows(self.survey.chart, standing))
+        return self.lays[row]
 
     def number_with(self, row, i, first):
         """Return the bound of the row with this piece for thread i."""
         return self.bounds[row[:i] + (first,) + row[i + 1:]]
+
+    def _add_all(self, rows):
+        # The bound of a row rests on those of the later ones.
+        for _, row in sorted([(self.survey.rank_of(each), each) for each in rows if each not in self.bounds]):
+            self._add(row)
 
     def _add(self, row):
         survey = self.survey

@@ -1,8 +1,8 @@
 """Plays: which traps are laid and which thread goes where, and what comes of it."""
 
 from fewtraps.errors import BadEvents, BadPlay
-from fewtraps.maps import check_traps_number, made_map, number_within, place_fits, traps_fit
-from fewtraps.standings import made_standing
+from fewtraps.maps import check_traps_number, made_map, place_fits, traps_fit
+from fewtraps.standings import made_standing, thread_fits
 
 EVENTS = ("lay", "on", "idle", "wished", "miss")
 STOPS = ("idle", "wished")
@@ -66,6 +66,6 @@ def go_fits(chart, roads, standing, thing):
     if not isinstance(thing, tuple) or len(thing) != 3:
         return False
     word, i, b = thing
-    if word != "go" or not number_within(i, 0, len(standing) - 1) or not place_fits(chart, b):
+    if word != "go" or not thread_fits(standing, i) or not place_fits(chart, b):
         return False
     return (standing[i], b) in roads

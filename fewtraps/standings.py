@@ -1,7 +1,7 @@
 """Standings of threads, their rows and members, and which standings are later."""
 
-from fewtraps.errors import BadStanding, Refused, TooMany
-from fewtraps.maps import MOST_THREADS, made_map, place_fits
+from fewtraps.errors import BadStanding, BadThread, Refused, TooMany
+from fewtraps.maps import MOST_THREADS, made_map, number_within, place_fits
 from fewtraps.pieces import piece_table, unwished_pieces
 from fewtraps.reach import reached_unwished
 
@@ -75,3 +75,14 @@ def check_size(chart, table, threads):
         size = size * single
     if size > MOST_ROWS:
         raise TooMany(size)
+
+
+def thread_fits(standing, thing):
+    """Return whether thing is the number of a thread of the standing."""
+    return number_within(thing, 0, len(standing) - 1)
+
+
+def check_thread(standing, thing):
+    """Raise BadThread unless thing is the number of a thread of the standing."""
+    if not thread_fits(standing, thing):
+        raise BadThread(thing)

@@ -53,11 +53,11 @@ class Case(unittest.TestCase):
         self.assertEqual(one, other)
         self.assertEqual(repr(one), repr(other))
 
-    def plain(self, thing):
-        """Expect nothing but tuples, numbers, True, False and None; return it."""
-        self.assertIn(type(thing), (tuple, int, bool, type(None)))
+    def plain(self, thing, *more):
+        """Expect nothing but tuples, numbers, True, False, None, and what else is told; return it."""
+        self.assertIn(type(thing), (tuple, int, bool, type(None)) + more)
         for item in thing if isinstance(thing, tuple) else ():
-            self.plain(item)
+            self.plain(item, *more)
         return thing
 
     def checks_arguments(self, function, **more):

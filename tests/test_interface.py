@@ -6,6 +6,7 @@ import inspect
 
 from fewtraps.errors import Refused
 from tests.cases import EMPTY, FULL60, RING60, SELF, Case, M
+from tests.runs import ECHO, EVERY
 
 # Each function with the names of its arguments.
 TAKEN = {
@@ -30,7 +31,25 @@ TAKEN = {
     "plays": {"referee": "chart k standing play", "most_idle": "events"},
     "wardens": {"made_warden": "chart k thing", "is_warden": "chart k thing", "plan_warden": "chart k n",
                 "beaten": "chart k standing warden j"},
+    "programs": {"made_program": "thing", "is_program": "thing", "roads_of": "program", "map_of": "program wished",
+                 "writes": "program c"},
+    "words": {"is_name": "thing"},
 }
+
+# Each class with the names of its arguments and those of its methods.
+CLASSES = {
+    "session": {"Session": ("chart k standing", {
+        "seen": "", "at": "", "traps": "", "idle": "", "legs": "", "over": "", "play": "", "go": "i b",
+        "change": "chart k"})},
+    "machine": {"Machine": ("program starts inputs", {
+        "at": "", "cells": "", "asked": "", "next_place": "i", "step": "i"})},
+    "debugger": {"Debugger": ("program wished k starts inputs", {
+        "step": "i", "run": "weave", "at": "", "cells": "", "seen": "", "traps": "", "idle": "", "legs": "", "over": "",
+        "play": ""})},
+}
+
+# The modules of which a function returns texts.
+TELLING = ("plays", "wardens", "programs")
 
 CHARTS = (M, SELF, EMPTY, FULL60, RING60, (8, M[1], ()), (8, M[1], tuple(range(8))))
 STANDINGS = ((0,), (1, 0), (7, 0, 1), ())
@@ -39,9 +58,11 @@ VALUES = {
     "b": (0, 4), "lot": ((0,), (0, 7), ()), "traps": ((), (2, 3)), "free": ((), (1, 2), (7,)), "n": (1, 3), "j": (0, 1),
     "warden": ((), (((0,), (1,)), ((0, 1), (2, 3)))), "events": (("idle", "wished", "idle", "idle"), ()),
     "play": ((), (("lay", ()), ("go", 0, 1)), (("lay", (1,)), ("go", 0, 1), ("lay", ()))),
-    "thing": CHARTS + STANDINGS + ((((0,), (2, 3), 1), ((2,), (4, 5), 0), ((3,), (6, 7), 0)), ((0, 1, 2, 4),),
-                                   ((1,), ((1, 2, 4), (1, 3, 6))), ((1, ((1, 2, 4), (1, 3, 6))),),
-                                   (((0,), (1,)), ((0, 1), (2, 3)))),
+    "program": (ECHO, EVERY, (("x",), ("",), (("end",),)), ECHO[:2]),
+    "wished": ((), (0, 3), (3, 0), (7,)), "c": (0, 1, 2),
+    "thing": CHARTS + STANDINGS + (ECHO, EVERY, "x", "go") + (
+        (((0,), (2, 3), 1), ((2,), (4, 5), 0), ((3,), (6, 7), 0)), ((0, 1, 2, 4),), ((1,), ((1, 2, 4), (1, 3, 6))),
+        ((1, ((1, 2, 4), (1, 3, 6))),), (((0,), (1,)), ((0, 1), (2, 3)))),
 }
 
 
@@ -70,11 +91,24 @@ class TestInterface(Case):
     def test_each_is_defined_in_its_file(self):
         for function, module, names in self.each_function():
             self.assertEqual(function.__module__, "fewtraps." + module)
-            self.assertTrue(inspect.isfunction(function))
-            parameters = inspect.signature(function).parameters.values()
-            self.assertEqual([parameter.name for parameter in parameters], names)
-            self.assertEqual({parameter.kind for parameter in parameters}, {inspect.Parameter.POSITIONAL_OR_KEYWORD})
-            self.assertEqual({parameter.default for parameter in parameters}, {inspect.Parameter.empty})
+            self.takes(function, " ".join(names))
+
+    def takes(self, function, names):
+        """Expect a function with arguments of these names, by position or by name, and without default values."""
+        self.assertTrue(inspect.isfunction(function))
+        parameters = inspect.signature(function).parameters.values()
+        self.assertEqual([parameter.name for parameter in parameters], names.split())
+        self.assertEqual({parameter.kind for parameter in parameters}, {inspect.Parameter.POSITIONAL_OR_KEYWORD})
+        self.assertEqual({parameter.default for parameter in parameters}, {inspect.Parameter.empty})
+
+    def test_each_class_is_defined_in_its_file(self):
+        for module, classes in CLASSES.items():
+            for name, (names, methods) in classes.items():
+                found = getattr(importlib.import_module("fewtraps." + module), name)
+                self.assertEqual((found.__module__, found.__bases__), ("fewtraps." + module, (object,)))
+                self.takes(vars(found)["__init__"], "self " + names)
+                for method, more in methods.items():
+                    self.takes(vars(found)[method], "self " + more)
 
     def test_equal_calls_return_the_same_and_change_nothing(self):
         for function, _, names in self.each_function():
@@ -88,9 +122,9 @@ class TestInterface(Case):
 
     def test_nothing_but_tuples(self):
         for function, module, names in self.each_function():
-            for arguments in choices(names) if module != "plays" and function.__name__ != "beaten" else ():
+            for arguments in choices(names):
                 try:
-                    self.plain(function(*arguments))
+                    self.plain(function(*arguments), *[str] if module in TELLING else [])
                 except Refused:
                     pass
 
