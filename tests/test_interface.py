@@ -34,6 +34,10 @@ TAKEN = {
     "programs": {"made_program": "thing", "is_program": "thing", "roads_of": "program", "map_of": "program wished",
                  "writes": "program c"},
     "words": {"is_name": "thing"},
+    "readprogram": {"read_program": "text"},
+    "printprogram": {"print_program": "program"},
+    "maptexts": {"read_map": "text", "print_map": "chart"},
+    "playtexts": {"read_play": "text", "print_play": "play"},
 }
 
 # Each class with the names of its arguments and those of its methods.
@@ -46,18 +50,45 @@ CLASSES = {
     "debugger": {"Debugger": ("program wished k starts inputs", {
         "step": "i", "run": "weave", "at": "", "cells": "", "seen": "", "traps": "", "idle": "", "legs": "", "over": "",
         "play": ""})},
+    "desk": {"Desk": ("program k", {
+        "wish": "hand place", "strike": "hand place", "undo": "hand", "redo": "hand", "slots": "k", "wished": "",
+        "map": "",
+        "hands_of": "place", "row": "text"})},
+}
+
+# For each class some arguments, and calls of its methods one behind the other, right and wrong ones.
+CALLS = {
+    "Session": ((M, 2, (0,)), (
+        ("traps",), ("go", 0, 1), ("seen",), ("at",), ("change", M, 2), ("go", 0, 2), ("idle",), ("traps",),
+        ("go", 1, 4),
+        ("go", 0, 4), ("legs",), ("over",), ("play",), ("change", M, 9), ("change", M, 4), ("go", 0, 4), ("play",))),
+    "Machine": ((ECHO, (0, 0), ((5, 0), ())), (
+        ("step", 0), ("next_place", 1), ("step", 1), ("cells",), ("step", 2), ("asked",), ("step", 0), ("at",),
+        ("next_place", True))),
+    "Debugger": ((ECHO, (3,), 1, (0,), ((5, 0),)), (
+        ("traps",), ("run", (0, 0, 0, 0, 0)), ("seen",), ("at",), ("cells",), ("step", 0), ("step", 1), ("run", (0, 1)),
+        ("run", (0, 0)), ("idle",), ("legs",), ("over",), ("play",))),
+    "Desk": ((ECHO, 1), (
+        ("wish", "ann", 3), ("wish", "ann", 3), ("strike", "bob", 3), ("wished",), ("strike", "ann", 3),
+        ("undo", "ann"),
+        ("map",), ("redo", "ann"), ("redo", "ann"), ("undo", "ann"), ("hands_of", 3), ("hands_of", 9), ("slots", 3),
+        ("slots", 9),
+        ("row", "curve s"), ("row", "lay s t"), ("row", "wished"))),
 }
 
 # The modules of which a function returns texts.
-TELLING = ("plays", "wardens", "programs")
+TELLING = ("plays", "wardens", "programs", "readprogram", "printprogram", "maptexts", "playtexts")
 
 CHARTS = (M, SELF, EMPTY, FULL60, RING60, (8, M[1], ()), (8, M[1], tuple(range(8))))
 STANDINGS = ((0,), (1, 0), (7, 0, 1), ())
+TEXTS = ("", "s: x = ask; go s", "go t", "places 2; roads 1 0, 0 1; wished 1", "lay 3 1; go 0 2", "lay 1 1", "go 0 x",
+         "\n")
 VALUES = {
     "chart": CHARTS, "k": (0, 2, 4, 9), "standing": STANDINGS, "one": STANDINGS, "two": STANDINGS, "a": (0, 1, 7),
     "b": (0, 4), "lot": ((0,), (0, 7), ()), "traps": ((), (2, 3)), "free": ((), (1, 2), (7,)), "n": (1, 3), "j": (0, 1),
     "warden": ((), (((0,), (1,)), ((0, 1), (2, 3)))), "events": (("idle", "wished", "idle", "idle"), ()),
     "play": ((), (("lay", ()), ("go", 0, 1)), (("lay", (1,)), ("go", 0, 1), ("lay", ()))),
+    "text": TEXTS + (5, None),
     "program": (ECHO, EVERY, (("x",), ("",), (("end",),)), ECHO[:2]),
     "wished": ((), (0, 3), (3, 0), (7,)), "c": (0, 1, 2),
     "thing": CHARTS + STANDINGS + (ECHO, EVERY, "x", "go") + (
@@ -109,6 +140,22 @@ class TestInterface(Case):
                 self.takes(vars(found)["__init__"], "self " + names)
                 for method, more in methods.items():
                     self.takes(vars(found)[method], "self " + more)
+
+    def test_methods_take_arguments_by_name(self):
+        for module, classes in CLASSES.items():
+            for name, (names, methods) in classes.items():
+                made = getattr(importlib.import_module("fewtraps." + module), name)
+                arguments, calls = CALLS[name]
+                kept = copy.deepcopy((arguments, calls))
+                one = made(*arguments)
+                other = made(**dict(reversed(list(zip(names.split(), arguments)))))
+                for method, *more in calls:
+                    found = outcome(getattr(one, method), *more)
+                    backward = dict(reversed(list(zip(methods[method].split(), more))))
+                    self.same(outcome(getattr(other, method), **backward), found)
+                    self.plain(found, str)
+                self.assertEqual({call[0] for call in calls}, set(methods))
+                self.same((arguments, calls), kept)
 
     def test_equal_calls_return_the_same_and_change_nothing(self):
         for function, _, names in self.each_function():
