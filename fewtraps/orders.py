@@ -6,9 +6,8 @@ from fewtraps.readers import Reader
 
 PLACE_DEEDS = ("wish", "strike")
 BARE_DEEDS = ("undo", "redo")
-BARE_QUESTIONS = ("wished", "pieces", "walls")
 STANDING_QUESTIONS = ("enough", "bound", "lay", "curve")
-FIRST_WORDS = ("slots", "writes", "safe") + BARE_QUESTIONS + STANDING_QUESTIONS
+FIRST_WORDS = ("slots", "wished", "pieces", "walls", "writes", "enough", "bound", "lay", "curve", "safe")
 
 
 def read_order(text, program):

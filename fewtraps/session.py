@@ -3,7 +3,7 @@
 from fewtraps.errors import BadRoad, NoBound, Over, Running, Unlike
 from fewtraps.maps import check_traps_number, made_map, place_fits
 from fewtraps.plans import later_plan
-from fewtraps.plays import event_at
+from fewtraps.plays import STOPS, event_at
 from fewtraps.standings import check_thread
 
 
@@ -53,15 +53,14 @@ class Session:
             raise BadRoad(b)
         self.standing = self.standing[:i] + (b,) + self.standing[i + 1:]
         self.entries.append(("go", i, b))
+        self.gone_on = True
         event = event_at(self.chart, self.laid, b)
-        if event == "on":
-            self.gone_on = True
-        elif event == "idle":
+        if event == "idle":
             self.idle_stops = self.idle_stops + 1
-            self._see_all()
-        else:
+        elif event == "wished":
             self.wished_stops = self.wished_stops + 1
             self.idle_stops = 0
+        if event in STOPS:
             self._see_all()
         return event
 

@@ -5,17 +5,12 @@ from fewtraps.maps import made_map
 from fewtraps.maptexts import print_map, read_map
 from tests.cases import CHAIN60, EMPTY, FULL60, NO_MAPS, RING60, SELF, Case, M, M3, all_maps, some_maps
 from tests.runs import KEPT
-from tests.texts import PlainMap, checks_signs, outcome, plain_read, printed, spaced, spoiled, words_of_map
+from tests.texts import PlainMap, ReaderCase, checks_signs, outcome, plain_read, printed, spaced, spoiled, words_of_map
 
 
-class TestReadMap(Case):
-    def bad(self, error, what, text):
-        self.refused(error, what, read_map, text)
-        self.same(plain_read(text, PlainMap()), (error.__name__, what))
-
-    def good(self, chart, text):
-        self.same(read_map(text), chart)
-        self.same(plain_read(text, PlainMap()), ("value", chart))
+class TestReadMap(ReaderCase):
+    read = staticmethod(read_map)
+    grammar = PlainMap
 
     def test_examples(self):
         self.good((3, ((0, 1), (2, 0)), (2,)), "places 3; roads 2 0,0 1; wished 2")

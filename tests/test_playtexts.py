@@ -4,7 +4,8 @@ from fewtraps.errors import BadNumber, BadPlay, BadText, TooMany, Twice
 from fewtraps.playtexts import print_play, read_play
 from tests.cases import Case
 from tests.runs import KEPT
-from tests.texts import PlainPlay, checks_signs, outcome, plain_read, printed, spaced, spoiled, words_of_play
+from tests.texts import (
+    PlainPlay, ReaderCase, checks_signs, outcome, plain_read, printed, spaced, spoiled, words_of_play)
 
 
 def some_plays(count, seed):
@@ -21,14 +22,9 @@ def some_plays(count, seed):
         yield tuple(play)
 
 
-class TestReadPlay(Case):
-    def bad(self, error, what, text):
-        self.refused(error, what, read_play, text)
-        self.same(plain_read(text, PlainPlay()), (error.__name__, what))
-
-    def good(self, play, text):
-        self.same(read_play(text), play)
-        self.same(plain_read(text, PlainPlay()), ("value", play))
+class TestReadPlay(ReaderCase):
+    read = staticmethod(read_play)
+    grammar = PlainPlay
 
     def test_examples(self):
         self.good((("lay", (1, 3)), ("go", 0, 2)), "lay 3 1; go 0 2")

@@ -3,19 +3,13 @@ import random
 from fewtraps.errors import BadNumber, BadText, NoName, TooMany, Twice
 from fewtraps.programs import made_program
 from fewtraps.readprogram import read_program
-from tests.cases import Case
 from tests.runs import ECHO, EVERY, KEPT, some_programs
-from tests.texts import PlainProgram, checks_signs, outcome, plain_read, spaced, spoiled, words_of_program
+from tests.texts import PlainProgram, ReaderCase, checks_signs, outcome, plain_read, spaced, spoiled, words_of_program
 
 
-class TestReadProgram(Case):
-    def bad(self, error, what, text):
-        self.refused(error, what, read_program, text)
-        self.same(plain_read(text, PlainProgram()), (error.__name__, what))
-
-    def good(self, program, text):
-        self.same(read_program(text), program)
-        self.same(plain_read(text, PlainProgram()), ("value", program))
+class TestReadProgram(ReaderCase):
+    read = staticmethod(read_program)
+    grammar = PlainProgram
 
     def test_examples(self):
         self.good(ECHO, "s: x=ask; if x = y go e;go s; e : y = x + x; go s")

@@ -3,6 +3,7 @@
 import re
 
 from fewtraps.errors import Refused
+from tests.cases import Case
 from tests.runs import KEPT, random_name
 
 END = "the end"
@@ -378,6 +379,18 @@ def spoiled(chance, words):
     return words
 
 
+class ReaderCase(Case):
+    """A case for a reader, `read`, beside its plain grammar."""
+
+    def bad(self, error, what, text):
+        self.refused(error, what, self.read, text)
+        self.same(plain_read(text, self.grammar()), (error.__name__, what))
+
+    def good(self, value, text):
+        self.same(self.read(text), value)
+        self.same(plain_read(text, self.grammar()), ("value", value))
+
+
 NO_TEXTS = (None, 0, True, False, (), ("go",), ("lay", ()), [], ["end"], b"end", {"end"})
 
 
@@ -386,7 +399,7 @@ def checks_signs(case, read, good):
     for thing in NO_TEXTS:
         case.same(outcome(read, thing), ("BadText", -1))
     for code in list(range(32)) + list(range(127, 260)) + [0x2028, 0x3b1, 0xff1b, 0x1d7ce]:
-        for index in (0, 1, len(good) // 2, len(good) - 1, len(good)):
+        for index in range(len(good) + 1):
             case.same(outcome(read, good[:index] + chr(code) + good[index:]), ("BadText", index))
         case.same(outcome(read, "?" + chr(code) * 2), ("BadText", 1))
     for code in range(32, 127):
